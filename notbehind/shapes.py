@@ -1,0 +1,123 @@
+"""Checks of counts, sizes and shapes, and of the texts of outcomes that fit a shape."""
+
+from notbehind.errors import BadCount, BadRow, BadSize, Mismatch
+
+OUTCOMES = "01234"
+MOST_WIDTH = 5
+MOST_ROUNDS = (8, 8, 5, 4, 3)
+
+
+def check_count(found, low, high):
+    """Raise BadCount unless it is an integer from low to high; a bool is none."""
+    if isinstance(found, bool) or found < low or found > high:
+        raise BadCount(found, low, high)
+
+
+def check_size(items, due):
+    """Raise BadSize unless a list has as many items as are due."""
+    if len(items) != due:
+        raise BadSize(len(items), due)
+
+
+def check_width(width):
+    """Raise BadCount unless there are games of the width."""
+    check_count(width, 1, MOST_WIDTH)
+
+
+def check_rounds(width, rounds):
+    """Raise BadCount unless a game of the width, which is right, may have these rounds."""
+    check_count(rounds, 0, MOST_ROUNDS[width - 1])
+
+
+def check_shape(width, rounds):
+    """Raise BadCount for a wrong width, then for wrong rounds."""
+    check_width(width)
+    check_rounds(width, rounds)
+
+
+def check_same_shape(first, second):
+    """Raise Mismatch unless two objects have the same shape."""
+    if first.width != second.width or first.rounds != second.rounds:
+        raise Mismatch("two unlike shapes")
+
+
+def rounds_of_parts(parts, width):
+    """The rounds of what has one round more than its parts, one part for each first outcome."""
+    for part in parts:
+        if part.width != width or part.rounds != parts[0].rounds:
+            raise Mismatch("a part of another shape")
+    rounds = parts[0].rounds + 1
+    check_rounds(width, rounds)
+    return rounds
+
+
+def row_count(width, rounds):
+    """How many texts of so many outcomes there are."""
+    many = 1
+    for _ in range(rounds):
+        many = many * width
+    return many
+
+
+def inner_count(width, rounds):
+    """How many texts of fewer outcomes than the rounds there are."""
+    many = 0
+    for _ in range(rounds):
+        many = many * width + 1
+    return many
+
+
+def is_outcomes(text, width):
+    """True if the text has only outcomes of the width as characters."""
+    outcomes = OUTCOMES[:width]
+    return all([letter in outcomes for letter in text])
+
+
+def check_beginning(text, width, rounds):
+    """Raise BadRow unless the text is a beginning of any length."""
+    if len(text) > rounds or not is_outcomes(text, width):
+        raise BadRow(text)
+
+
+def check_row(text, width, rounds):
+    """Raise BadRow unless the text is a row."""
+    if len(text) != rounds or not is_outcomes(text, width):
+        raise BadRow(text)
+
+
+def check_inner(text, width, rounds):
+    """Raise BadRow unless the text is an inner beginning."""
+    if len(text) >= rounds or not is_outcomes(text, width):
+        raise BadRow(text)
+
+
+def check_outcome(text, width):
+    """Raise BadRow unless the text is one outcome."""
+    check_row(text, width, 1)
+
+
+def check_order(text):
+    """Raise BadRow unless the text has each outcome of a width exactly once."""
+    if len(text) < 1 or len(text) > MOST_WIDTH or sorted(text) != list(OUTCOMES[:len(text)]):
+        raise BadRow(text)
+
+
+def texts_of(width, length):
+    """The list of all texts of so many outcomes, ascending."""
+    texts = [""]
+    for _ in range(length):
+        texts = [text + letter for text in texts for letter in OUTCOMES[:width]]
+    return texts
+
+
+def place_in(text, width):
+    """The place of a text of outcomes among the texts of its length."""
+    place = 0
+    for letter in text:
+        place = place * width + OUTCOMES.index(letter)
+    return place
+
+
+def number_in(text, width):
+    """The index of a text of outcomes in the order of all beginnings."""
+    return inner_count(width, len(text)) + place_in(text, width)
