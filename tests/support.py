@@ -4,7 +4,7 @@ import itertools
 import unittest
 from fractions import Fraction
 
-from notbehind.errors import NotBehindError
+from notbehind.errors import BadCount, NotBehindError
 
 MOST_ROUNDS = {1: 8, 2: 8, 3: 5, 4: 4, 5: 3}
 SHAPES = [(width, rounds) for width in MOST_ROUNDS for rounds in range(MOST_ROUNDS[width] + 1)]
@@ -53,6 +53,17 @@ class Case(unittest.TestCase):
         first.reverse()
         self.assertIsNot(call(), first)
         self.same(call(), kept)
+
+    def wrong_shapes(self, call):
+        """The call takes a width and rounds and raises BadCount for wrong ones, the width first."""
+        for wrong in wrong_counts(1, 5):
+            for rounds in (0, 1, -1, 9, True):
+                with self.subTest(width=wrong, rounds=rounds):
+                    self.raises(BadCount, {"found": wrong, "low": 1, "high": 5}, call, wrong, rounds)
+        for width, most in MOST_ROUNDS.items():
+            for wrong in wrong_counts(0, most):
+                with self.subTest(width=width, rounds=wrong):
+                    self.raises(BadCount, {"found": wrong, "low": 0, "high": most}, call, width, wrong)
 
 
 def pair(value):

@@ -3,8 +3,9 @@
 import unittest
 
 from notbehind import errors
-from notbehind.errors import BadCount, BadName, BadRow, BadSize, BadText, NotBehindError
+from notbehind.errors import BadCount, BadName, BadRow, BadShare, BadSize, BadText, NotBehindError
 from notbehind.exact import mean
+from notbehind.plans import Plan
 from notbehind.rows import most_rounds, place_of
 from notbehind.words import check_name, read_number
 from support import Case
@@ -31,6 +32,7 @@ class ErrorClasses(Case):
         self.raises(BadName, {"found": "A"}, check_name, "A")
         self.raises(BadText, {"line": 1}, read_number, "x")
         self.raises(BadRow, {"found": "2"}, place_of, "2")
+        self.raises(BadShare, {"at": ""}, Plan, 2, 1, [[1, 1]])
 
     def test_they_are_caught_by_the_base_class_and_as_value_errors(self):
         with self.assertRaises(NotBehindError):

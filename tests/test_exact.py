@@ -208,6 +208,21 @@ class NoNumbers(Case):
                     self.raises(BadNumber, {}, dot, [0] * len(values), values)
 
 
+class EqualCalls(Case):
+    def test_equal_numbers_have_equal_answers_but_a_bool_is_none(self):
+        for function in (fraction, negate, whole_below, whole_above):
+            for one in (1, (1, 1), (3, 3)):
+                self.same(function(one), function(1))
+                self.raises(BadNumber, {}, function, True)
+        for function in (add, sub, mul, div, compare):
+            self.same(function(1, 1), function((2, 2), (5, 5)))
+            self.raises(BadNumber, {}, function, True, 1)
+            self.raises(BadNumber, {}, function, 1, True)
+        for function in (total, mean, least, greatest):
+            self.same(function([1]), function([(4, 4)]))
+            self.raises(BadNumber, {}, function, [True])
+
+
 class WhichErrorGoesFirst(Case):
     def test_numbers_go_ahead_of_what_they_are_compared_with(self):
         self.raises(BadNumber, {}, div, None, 0)

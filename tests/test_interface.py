@@ -22,9 +22,33 @@ INTERFACE = {
         "span_of(beginning, rounds, *, width=2)", "futures(beginning, rounds, *, width=2)",
         "shared_beginning(first, second)", "renamed(order, text)", "back_order(order)",
     ],
+    "tables": [
+        "Table(width, rounds, cells)", "flat(width, rounds, number)", "raised(table, number)",
+        "changed(table, row, number)", "lesser(first, second)", "greater(first, second)",
+        "mean_behind(table, beginning)", "means(table)", "behind(table, beginning)", "joined_parts(parts)",
+        "renamed_table(order, table)", "first_above(table, other)", "is_below(table, other)", "lowest_rows(table)",
+        "highest_rows(table)",
+    ],
+    "plans": [
+        "Plan(width, rounds, shares)", "even_plan(width, rounds)", "sure_plan(width, row)", "round_plan(width, shares)",
+        "ones_plan(rounds, ones)", "blended(first, second, *, weight)", "behind_plan(plan, beginning)",
+        "root_plan(shares, plans)", "renamed_plan(order, plan)", "first_bad_share(width, rounds, shares)",
+    ],
+    "misses": [
+        "miss(plan, beginning, outcome)", "row_misses(plan, beginning)", "miss_steps(plan, row)", "misses_table(plan)",
+        "chance(foe, beginning)", "chances(foe)", "reached(foe)", "mean_under(foe, table)",
+        "mean_misses(chooser, foe)", "least_misses(foe)", "best_reply(foe)", "even_misses(width, rounds)",
+        "first_over(chooser, table)", "keeps(chooser, table)",
+    ],
+    "forms": ["table_text(table)", "plan_text(plan)", "read_table(text)", "read_plan(text)"],
 }
 
-METHODS = {}
+METHODS = {
+    ("tables", "Table"): [
+        "__init__", "__call__", "__len__", "__iter__", "__eq__", "__add__", "__sub__", "__mul__",
+    ],
+    ("plans", "Plan"): ["__init__", "__call__", "__len__", "__iter__", "__eq__", "__add__"],
+}
 
 
 class Interface(unittest.TestCase):

@@ -87,6 +87,16 @@ class Rounds(Case):
                 call()
 
 
+    def test_a_bool_is_no_count_behind_an_equal_call_either(self):
+        for name, call in WITH_ROUNDS:
+            with self.subTest(name=name):
+                call(1, width=1)
+                call(0, width=1)
+                self.raises(BadCount, {"found": True, "low": 0, "high": 8}, call, True, width=1)
+                self.raises(BadCount, {"found": False, "low": 0, "high": 8}, call, False, width=1)
+                self.raises(BadCount, {"found": True, "low": 1, "high": 5}, call, 1, width=True)
+
+
 class RowsAndBeginnings(Case):
     def test_the_example_of_the_document(self):
         self.same(beginnings_of(2), ["", "0", "1"])
