@@ -51,11 +51,17 @@ def read_table(text):
 def read_plan(text):
     """The Plan whose text it is."""
     lines = text.split("\n")
-    width, rounds = read_shape(lines, 0, "plan")
+    plan, due = plan_at(lines, 0)
+    check_end(lines, due)
+    return plan
+
+
+def plan_at(lines, at):
+    """The Plan whose lines begin at an index, and the index behind them."""
+    width, rounds = read_shape(lines, at, "plan")
     beginnings = beginnings_of(rounds, width=width)
-    shares = [read_sharing(lines, at, beginning, width) for at, beginning in enumerate(beginnings, start=1)]
-    check_end(lines, len(beginnings) + 1)
-    return Plan(width, rounds, shares)
+    shares = [read_sharing(lines, place, beginning, width) for place, beginning in enumerate(beginnings, start=at + 1)]
+    return (Plan(width, rounds, shares), at + len(beginnings) + 1)
 
 
 def words_at(lines, at):

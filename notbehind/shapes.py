@@ -35,10 +35,21 @@ def check_shape(width, rounds):
     check_rounds(width, rounds)
 
 
+def is_same_shape(first, second):
+    """True if two objects have the same shape."""
+    return first.width == second.width and first.rounds == second.rounds
+
+
 def check_same_shape(first, second):
     """Raise Mismatch unless two objects have the same shape."""
-    if first.width != second.width or first.rounds != second.rounds:
+    if not is_same_shape(first, second):
         raise Mismatch("two unlike shapes")
+
+
+def check_two(table):
+    """Raise Mismatch unless the table has width 2."""
+    if table.width != 2:
+        raise Mismatch("a table of another width than 2")
 
 
 def rounds_of_parts(parts, width):
@@ -119,3 +130,14 @@ def place_in(text, width):
 def number_in(text, width):
     """The index of a text of outcomes in the order of all beginnings."""
     return inner_count(width, len(text)) + place_in(text, width)
+
+
+def next_of(values, at, width):
+    """Of values in the order of all beginnings, those of the beginnings that follow number at by one outcome."""
+    first = at * width + 1
+    return values[first:first + width]
+
+
+def nexts_of(values, width):
+    """The list of next_of for each inner beginning, in order."""
+    return [values[first:first + width] for first in range(1, len(values), width)]

@@ -6,8 +6,8 @@ from notbehind.ratios import (
 )
 from notbehind.rows import back_order, renamed, rows_of, span_of
 from notbehind.shapes import (
-    MOST_WIDTH, check_count, check_row, check_same_shape, check_shape, check_size, inner_count, place_in, row_count,
-    rounds_of_parts,
+    MOST_WIDTH, check_count, check_row, check_same_shape, check_shape, check_size, inner_count, next_of, place_in,
+    row_count, rounds_of_parts,
 )
 
 
@@ -104,16 +104,18 @@ def mean_behind(table, beginning):
     return mean_of(cells_behind(table, beginning))
 
 
-def means(table):
-    """The list of the means behind all beginnings, in the order of all beginnings."""
-    width = table.width
-    inner = inner_count(width, table.rounds)
+def worked_back(table, work_out):
+    """In the order of all beginnings, the cells behind rows and elsewhere what is worked out from the next values."""
+    inner = inner_count(table.width, table.rounds)
     found = [ZERO] * inner + table.cells
     for at in reversed(range(inner)):
-        # In the order of all beginnings the ones that follow number at have the numbers from this one on.
-        following = at * width + 1
-        found[at] = mean_of(found[following:following + width])
+        found[at] = work_out(next_of(found, at, table.width))
     return found
+
+
+def means(table):
+    """The list of the means behind all beginnings, in the order of all beginnings."""
+    return worked_back(table, mean_of)
 
 
 def behind(table, beginning):

@@ -41,6 +41,32 @@ INTERFACE = {
         "first_over(chooser, table)", "keeps(chooser, table)",
     ],
     "forms": ["table_text(table)", "plan_text(plan)", "read_table(text)", "read_plan(text)"],
+    "exactly": [
+        "gap(table, beginning)", "bars(table)", "has_even_mean(table)", "exact_share(zero, one)", "is_exact(table)",
+        "exact_chooser(table)", "raised_to_even(table)", "past_misses(table, beginning)", "exact_paper(table)",
+        "is_exact_paper(table, paper)",
+    ],
+    "folding": [
+        "step(zero, one)", "step_share(zero, one)", "step_chances(zero, one)", "fold(table)",
+        "fold_behind(table, beginning)", "folds(table)", "can_keep(table)", "lack(table)", "keeper(table)",
+        "breaker(table)", "kept(table)",
+    ],
+    "papers": [
+        "slack_table(chooser, table)", "least_slack(chooser, table)", "tight_rows(chooser, table)", "worth(foe, table)",
+        "paper_text(paper)", "read_paper(text)", "bounds_paper(table)", "is_bounds_paper(table, paper)",
+        "value_paper(table)", "is_value_paper(table, paper)",
+    ],
+    "filling": [
+        "fill(levels)", "fill_shares(levels)", "filled(levels)", "fill_chances(levels)", "is_fill(levels, number)",
+        "wide_fold(table)", "wide_behind(table, beginning)", "wide_folds(table)", "wide_keeper(table)",
+        "wide_breaker(table)", "wide_value_paper(table)", "wide_bounds_paper(table)", "wide_tight_rows(chooser, table)",
+        "exact_shares(levels)", "wide_bars(table)", "is_exact_wide(table)", "exact_chooser_wide(table)",
+    ],
+    "machines": [
+        "Machine(width, tells, moves, *, start=0)", "run_states(machine, text)", "machine_misses(machine, text)",
+        "machine_plan(machine, rounds)", "constant_machine(width, shares)", "last_machine(width, shares)",
+        "machine_text(machine)", "read_machine(text)",
+    ],
 }
 
 METHODS = {
@@ -48,6 +74,7 @@ METHODS = {
         "__init__", "__call__", "__len__", "__iter__", "__eq__", "__add__", "__sub__", "__mul__",
     ],
     ("plans", "Plan"): ["__init__", "__call__", "__len__", "__iter__", "__eq__", "__add__"],
+    ("machines", "Machine"): ["__init__", "__eq__"],
 }
 
 
