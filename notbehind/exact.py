@@ -2,8 +2,8 @@
 
 from notbehind.errors import BadSize, DivisionByZero, Mismatch
 from notbehind.ratios import (
-    checked, checked_all, checked_weight, dot_of, greatest_of, is_less, least_of, mean_of, minus, mixed, opposite,
-    plus, reduced, sum_of, times,
+    ZERO, checked, checked_all, checked_weight, dot_of, greatest_of, is_less, least_of, mean_of, minus, mixed,
+    opposite, over, plus, sum_of, times,
 )
 
 
@@ -29,13 +29,11 @@ def mul(left, right):
 
 def div(left, right):
     """The left number divided by the right one."""
-    above, below = checked(left)
-    more, under = checked(right)
-    if more == 0:
+    first = checked(left)
+    second = checked(right)
+    if second == ZERO:
         raise DivisionByZero("a division by zero")
-    if more < 0:
-        return reduced(-above * under, below * -more)
-    return reduced(above * under, below * more)
+    return over(first, second)
 
 
 def negate(value):

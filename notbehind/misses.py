@@ -1,13 +1,13 @@
 """Misses of choosers, chances under foes, and tables that are kept."""
 
 from notbehind.plans import Plan
-from notbehind.ratios import ONE, ZERO, dot_of, greatest_of, minus, plus, sum_of, times
+from notbehind.ratios import ONE, ZERO, dot_of, greatest_of, minus, sum_of, times
 from notbehind.rows import rows_of
 from notbehind.shapes import (
     OUTCOMES, check_beginning, check_inner, check_outcome, check_row, check_same_shape, check_shape,
 )
 from notbehind.sharings import sure_sharing
-from notbehind.tables import Table, first_above
+from notbehind.tables import Table, first_above, summed_table
 
 
 def share_at(plan, beginning, outcome):
@@ -44,14 +44,14 @@ def miss_steps(plan, row):
     return steps_along(plan, row)
 
 
+def miss_lists(plan):
+    """The list of the misses at each inner beginning, in order, each a list by outcome."""
+    return [[minus(ONE, share) for share in sharing] for sharing in plan.shares]
+
+
 def misses_table(plan):
     """The table of misses."""
-    found = [ZERO]
-    # The list grows in the order of all beginnings, which is the order of the shares.
-    for at, sharing in enumerate(plan.shares):
-        so_far = found[at]
-        found.extend([plus(so_far, minus(ONE, share)) for share in sharing])
-    return Table(plan.width, plan.rounds, found[len(plan):])
+    return summed_table(plan.width, plan.rounds, miss_lists(plan))
 
 
 def all_chances(foe):

@@ -4,10 +4,10 @@ from notbehind.errors import Mismatch
 from notbehind.ratios import ONE, checked_weight, minus, mixed
 from notbehind.rows import back_order, beginnings_of, most_rounds, renamed
 from notbehind.shapes import (
-    MOST_WIDTH, OUTCOMES, check_beginning, check_count, check_inner, check_same_shape, check_size, number_in,
-    rounds_of_parts,
+    MOST_WIDTH, OUTCOMES, check_beginning, check_count, check_inner, check_same_shape, check_same_width, check_size,
+    number_in, rounds_of_parts,
 )
-from notbehind.sharings import checked_part, checked_sharing, is_sharing, share_numbers, sure_sharing
+from notbehind.sharings import checked_part, checked_sharing, is_sharing, sized_numbers, sure_sharing
 
 
 class Plan:
@@ -46,9 +46,8 @@ class Plan:
         )
 
     def __add__(self, other):
+        check_same_width(self, other)
         width = self.width
-        if width != other.width:
-            raise Mismatch("two plans of unlike widths")
         rounds = self.rounds + other.rounds
         # Too many rounds raise BadCount here, before any list grows that long.
         later = beginnings_of(rounds, width=width)[len(self._shares):]
@@ -132,7 +131,7 @@ def first_bad_share(width, rounds, shares):
     beginnings = beginnings_of(rounds, width=width)
     check_size(shares, len(beginnings))
     # All items are read before one is judged: an error of a later item goes before the answer.
-    told = [share_numbers(item, width) for item in shares]
+    told = [sized_numbers(item, width) for item in shares]
     for beginning, item in zip(beginnings, told):
         if not is_sharing(item):
             return beginning

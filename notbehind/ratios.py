@@ -82,6 +82,15 @@ def times(left, right):
     return reduced(above * more, below * under)
 
 
+def over(left, right):
+    """The left fraction divided by the right one, which is not zero."""
+    above, below = left
+    more, under = right
+    if more < 0:
+        return reduced(-above * under, below * -more)
+    return reduced(above * under, below * more)
+
+
 def is_less(left, right):
     """True if the left fraction is less than the right one."""
     above, below = left

@@ -1,10 +1,11 @@
 """Checks of counts, sizes and shapes, and of the texts of outcomes that fit a shape."""
 
-from notbehind.errors import BadCount, BadRow, BadSize, Mismatch
+from notbehind.errors import BadCount, BadRow, BadSize, Mismatch, NoHelper
 
 OUTCOMES = "01234"
 MOST_WIDTH = 5
 MOST_ROUNDS = (8, 8, 5, 4, 3)
+MOST_HELPERS = 5
 
 
 def check_count(found, low, high):
@@ -46,10 +47,25 @@ def check_same_shape(first, second):
         raise Mismatch("two unlike shapes")
 
 
-def check_two(table):
-    """Raise Mismatch unless the table has width 2."""
-    if table.width != 2:
-        raise Mismatch("a table of another width than 2")
+def check_same_width(first, second):
+    """Raise Mismatch unless two objects have the same width."""
+    if first.width != second.width:
+        raise Mismatch("two unlike widths")
+
+
+def check_helpers(helpers):
+    """Raise the errors of a list of helpers, or of the like with one shape for all."""
+    if len(helpers) == 0:
+        raise NoHelper("a list without a helper")
+    check_count(len(helpers), 1, MOST_HELPERS)
+    for helper in helpers:
+        check_same_shape(helpers[0], helper)
+
+
+def check_two(thing):
+    """Raise Mismatch unless an object has width 2."""
+    if thing.width != 2:
+        raise Mismatch("another width than 2")
 
 
 def rounds_of_parts(parts, width):

@@ -5,9 +5,9 @@ from notbehind.ratios import ONE, ZERO, checked, checked_all, is_part, sum_of
 from notbehind.shapes import check_size
 
 
-def share_numbers(numbers, width):
-    """The tuple of the fractions equal to the numbers of a list, as many as the width."""
-    check_size(numbers, width)
+def sized_numbers(numbers, due):
+    """The tuple of the fractions equal to the numbers of a list, as many as are due."""
+    check_size(numbers, due)
     return tuple(checked_all(numbers))
 
 
@@ -18,7 +18,7 @@ def is_sharing(shares):
 
 def checked_sharing(numbers, width, at):
     """The sharing that a list of numbers is; if it is none, BadShare tells the place."""
-    shares = share_numbers(numbers, width)
+    shares = sized_numbers(numbers, width)
     if not is_sharing(shares):
         raise BadShare(at)
     return shares

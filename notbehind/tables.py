@@ -93,6 +93,29 @@ def greater(first, second):
     return Table(first.width, first.rounds, cells)
 
 
+def lowest_table(tables):
+    """The Table of the least cells of one or more Tables of one shape."""
+    found = tables[0]
+    for table in tables[1:]:
+        found = lesser(found, table)
+    return found
+
+
+def sums_along(steps):
+    """In the order of all beginnings, the sums along each of steps that stand by inner beginning and by outcome."""
+    found = [ZERO]
+    # The list grows in the order of all beginnings, which is the order of the steps.
+    for at, nexts in enumerate(steps):
+        so_far = found[at]
+        found.extend([plus(so_far, step) for step in nexts])
+    return found
+
+
+def summed_table(width, rounds, steps):
+    """The Table of the sums along the rows of steps that stand by inner beginning and by outcome."""
+    return Table(width, rounds, sums_along(steps)[len(steps):])
+
+
 def cells_behind(table, beginning):
     """The list of the cells of all rows that begin with a beginning of any length."""
     first, many = span_of(beginning, table.rounds, width=table.width)

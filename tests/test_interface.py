@@ -67,6 +67,33 @@ INTERFACE = {
         "machine_plan(machine, rounds)", "constant_machine(width, shares)", "last_machine(width, shares)",
         "machine_text(machine)", "read_machine(text)",
     ],
+    "helpers": [
+        "helper_misses(helpers, row)", "best_misses(helpers, row)", "best_helpers(helpers, row)",
+        "first_best(helpers, row)", "best_table(helpers)", "distance(helpers)", "nearest_chooser(helpers)",
+        "hard_foe(helpers)", "farthest(plan, helpers)", "is_within(plan, helpers, number)", "tight_for(plan, helpers)",
+        "distance_paper(helpers)", "is_distance_paper(helpers, paper)",
+    ],
+    "stakes": [
+        "Stakes(width, losses)", "Picks(width, rounds, ones)", "miss_stakes()", "picks_of(plan)", "plan_of(picks)",
+        "stakes_step(stakes, levels)", "stakes_pick(stakes, levels)", "stakes_chances(stakes, levels)",
+        "pick_losses(stakes, picks, beginning)", "losses_table(stakes, picks)", "stakes_fold(stakes, table)",
+        "stakes_keeper(stakes, table)", "stakes_breaker(stakes, table)", "least_losses(stakes, foe)",
+        "stakes_paper(stakes, table)", "is_stakes_paper(stakes, table, paper)", "stakes_best(stakes, helpers)",
+        "stakes_distance(stakes, helpers)",
+    ],
+    "switches": [
+        "switches_in(path)", "path_misses(helpers, row, path)", "path_plan(helpers, path)",
+        "switch_misses(helpers, row, *, switches=1)", "best_path(helpers, row, *, switches=1)",
+        "is_best(helpers, row, path, *, switches=1)", "switch_table(helpers, *, switches=1)",
+        "switch_distance(helpers, *, switches=1)", "switch_chooser(helpers, *, switches=1)",
+        "switch_foe(helpers, *, switches=1)",
+    ],
+    "sleepers": [
+        "Sleeper(plan, awake)", "awake_rounds(sleeper, row)", "counted_misses(sleeper, row)",
+        "behind_sleeper(chooser, sleeper, row)", "stood_in(sleeper, plan)", "speaker(sleepers, beginning)",
+        "relay(sleepers, rest)", "are_apart(sleepers)", "farthest_behind(chooser, sleepers)",
+        "stood_distance(sleepers, plan)",
+    ],
 }
 
 METHODS = {
@@ -75,6 +102,9 @@ METHODS = {
     ],
     ("plans", "Plan"): ["__init__", "__call__", "__len__", "__iter__", "__eq__", "__add__"],
     ("machines", "Machine"): ["__init__", "__eq__"],
+    ("stakes", "Stakes"): ["__init__", "__call__", "__eq__"],
+    ("stakes", "Picks"): ["__init__", "__call__", "__iter__", "__eq__"],
+    ("sleepers", "Sleeper"): ["__init__", "__contains__"],
 }
 
 
