@@ -79,16 +79,18 @@ def times(left, right):
     """The product of two fractions."""
     above, below = left
     more, under = right
-    return reduced(above * more, below * under)
+    # Each fraction is in lowest terms, so that only an upper and the other lower part can share a divisor.
+    shared = gcd(above, under)
+    spare = gcd(more, below)
+    return ((above // shared) * (more // spare), (below // spare) * (under // shared))
 
 
 def over(left, right):
     """The left fraction divided by the right one, which is not zero."""
-    above, below = left
     more, under = right
     if more < 0:
-        return reduced(-above * under, below * -more)
-    return reduced(above * under, below * more)
+        return times(left, (-under, -more))
+    return times(left, (under, more))
 
 
 def is_less(left, right):

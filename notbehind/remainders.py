@@ -34,8 +34,8 @@ def meetings(pairs):
     return [pick for pick in found if is_part(pick)]
 
 
-def pick_of(pairs):
-    """The least pick at which the least remainder is greatest."""
+def best_of(pairs):
+    """The least pick at which the least remainder is greatest, and that remainder."""
     best = ZERO
     reached = lowest_at(pairs, best)
     # Between these picks the least remainder moves evenly, so it is greatest at one of them.
@@ -44,12 +44,17 @@ def pick_of(pairs):
         if is_less(reached, lowest) or (reached == lowest and is_less(pick, best)):
             best = pick
             reached = lowest
-    return best
+    return (best, reached)
+
+
+def pick_of(pairs):
+    """The least pick at which the least remainder is greatest."""
+    return best_of(pairs)[0]
 
 
 def step_in(pairs):
     """The greatest value, over all picks, of the least remainder."""
-    return lowest_at(pairs, pick_of(pairs))
+    return best_of(pairs)[1]
 
 
 def chances_in(pairs):
