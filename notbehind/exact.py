@@ -1,10 +1,11 @@
 """Exact arithmetic on numbers: integers, and tuples that stand for fractions."""
 
-from notbehind.errors import BadSize, DivisionByZero, Mismatch
+from notbehind.errors import DivisionByZero, Mismatch
 from notbehind.ratios import (
     ZERO, checked, checked_all, checked_weight, dot_of, greatest_of, is_less, least_of, mean_of, minus, mixed,
     opposite, over, plus, sum_of, times,
 )
+from notbehind.shapes import check_size, check_some
 
 
 def fraction(value):
@@ -59,8 +60,7 @@ def total(values):
 
 def some_values(values):
     """The fractions of a list of numbers that must not be empty."""
-    if len(values) == 0:
-        raise BadSize(0, 1)
+    check_some(values)
     return checked_all(values)
 
 
@@ -100,8 +100,7 @@ def dot(weights, values):
     """The sum of the products of items at the same index."""
     factors = checked_all(weights)
     # The weights are checked before the number of values, which belongs to the next argument.
-    if len(values) != len(factors):
-        raise BadSize(len(values), len(factors))
+    check_size(values, len(factors))
     return dot_of(factors, checked_all(values))
 
 

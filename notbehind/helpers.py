@@ -3,7 +3,7 @@
 from notbehind.filling import wide_breaker, wide_fold, wide_keeper
 from notbehind.misses import misses_table, row_misses
 from notbehind.papers import is_value_paper
-from notbehind.ratios import checked, is_less, least_of, opposite
+from notbehind.ratios import checked, is_less, least_of, opposite, places_of_least
 from notbehind.shapes import check_helpers, check_row
 from notbehind.tables import highest_rows, lowest_table, rows_with
 
@@ -22,9 +22,7 @@ def best_misses(helpers, row):
 
 def best_helpers(helpers, row):
     """The list of the numbers of the helpers with the least misses on the row, ascending."""
-    found = helper_misses(helpers, row)
-    best = least_of(found)
-    return [number for number, misses in enumerate(found) if misses == best]
+    return places_of_least(helper_misses(helpers, row))
 
 
 def first_best(helpers, row):

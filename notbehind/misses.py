@@ -7,7 +7,7 @@ from notbehind.shapes import (
     OUTCOMES, check_beginning, check_inner, check_outcome, check_row, check_same_shape, check_shape,
 )
 from notbehind.sharings import sure_sharing
-from notbehind.tables import Table, first_above, summed_table
+from notbehind.tables import Table, first_above, products_along, summed_table
 
 
 def share_at(plan, beginning, outcome):
@@ -56,11 +56,7 @@ def misses_table(plan):
 
 def all_chances(foe):
     """The list of the chances of all beginnings, in the order of all beginnings."""
-    found = [ONE]
-    for at, sharing in enumerate(foe.shares):
-        so_far = found[at]
-        found.extend([times(so_far, share) for share in sharing])
-    return found
+    return products_along(foe.shares)
 
 
 def chance(foe, beginning):
@@ -94,10 +90,14 @@ def mean_misses(chooser, foe):
     return mean_under(foe, misses_table(chooser))
 
 
+def least_steps(foe):
+    """The list of the least mean misses in the round behind each inner beginning, in order."""
+    return [minus(ONE, greatest_of(sharing)) for sharing in foe.shares]
+
+
 def least_misses(foe):
     """The least misses of the foe: no chooser has lesser mean misses under it."""
-    steps = [minus(ONE, greatest_of(sharing)) for sharing in foe.shares]
-    return dot_of(all_chances(foe)[:len(foe)], steps)
+    return dot_of(all_chances(foe)[:len(foe)], least_steps(foe))
 
 
 def best_reply(foe):

@@ -131,6 +131,32 @@ def greatest_of(values):
     return found
 
 
+def places_of_least(values):
+    """The list of the indexes of the least of one or more fractions, ascending."""
+    least = least_of(values)
+    return [place for place, value in enumerate(values) if value == least]
+
+
+def ascending(values):
+    """The list of fractions, ascending."""
+    if len(values) < 2:
+        return list(values)
+    half = len(values) // 2
+    return merged(ascending(values[:half]), ascending(values[half:]))
+
+
+def merged(left, right):
+    """The list of the fractions of two ascending lists, ascending."""
+    found = []
+    at = 0
+    for value in left:
+        while at < len(right) and is_less(right[at], value):
+            found.append(right[at])
+            at = at + 1
+        found.append(value)
+    return found + right[at:]
+
+
 def dot_of(weights, values):
     """The sum of the products of fractions at the same index."""
     return sum_of([times(weight, value) for weight, value in zip(weights, values)])

@@ -1,7 +1,7 @@
 """Rows and beginnings of a shape, their places, and orders that rename outcomes."""
 
 from notbehind.shapes import (
-    MOST_ROUNDS, OUTCOMES, check_beginning, check_count, check_order, check_shape, check_width, is_outcomes, number_in,
+    MOST_ROUNDS, OUTCOMES, check_beginning, check_count, check_order, check_shape, check_width, is_full_row, number_in,
     place_in, row_count, texts_of,
 )
 
@@ -21,7 +21,7 @@ def letters(width):
 def is_row(text, rounds, *, width=2):
     """True if the text is a row of the shape."""
     check_shape(width, rounds)
-    return len(text) == rounds and is_outcomes(text, width)
+    return is_full_row(text, width, rounds)
 
 
 def rows_of(rounds, *, width=2):

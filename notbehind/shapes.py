@@ -20,6 +20,12 @@ def check_size(items, due):
         raise BadSize(len(items), due)
 
 
+def check_some(items):
+    """Raise BadSize for an empty list where one item at least is due."""
+    if len(items) == 0:
+        raise BadSize(0, 1)
+
+
 def check_width(width):
     """Raise BadCount unless there are games of the width."""
     check_count(width, 1, MOST_WIDTH)
@@ -92,28 +98,52 @@ def inner_count(width, rounds):
     return many
 
 
+def is_made_of(text, letters):
+    """True if the text has only the letters as characters."""
+    return all([letter in letters for letter in text])
+
+
 def is_outcomes(text, width):
     """True if the text has only outcomes of the width as characters."""
-    outcomes = OUTCOMES[:width]
-    return all([letter in outcomes for letter in text])
+    return is_made_of(text, OUTCOMES[:width])
+
+
+def is_beginning(text, width, rounds):
+    """True if the text is a beginning of any length."""
+    return len(text) <= rounds and is_outcomes(text, width)
 
 
 def check_beginning(text, width, rounds):
     """Raise BadRow unless the text is a beginning of any length."""
-    if len(text) > rounds or not is_outcomes(text, width):
+    if not is_beginning(text, width, rounds):
         raise BadRow(text)
+
+
+def is_full_row(text, width, rounds):
+    """True if the text is a row."""
+    return len(text) == rounds and is_outcomes(text, width)
 
 
 def check_row(text, width, rounds):
     """Raise BadRow unless the text is a row."""
-    if len(text) != rounds or not is_outcomes(text, width):
+    if not is_full_row(text, width, rounds):
         raise BadRow(text)
+
+
+def is_inner(text, width, rounds):
+    """True if the text is an inner beginning."""
+    return len(text) < rounds and is_outcomes(text, width)
 
 
 def check_inner(text, width, rounds):
     """Raise BadRow unless the text is an inner beginning."""
-    if len(text) >= rounds or not is_outcomes(text, width):
+    if not is_inner(text, width, rounds):
         raise BadRow(text)
+
+
+def is_outcome(text, width):
+    """True if the text is one outcome."""
+    return is_full_row(text, width, 1)
 
 
 def check_outcome(text, width):
@@ -127,12 +157,17 @@ def check_order(text):
         raise BadRow(text)
 
 
-def texts_of(width, length):
-    """The list of all texts of so many outcomes, ascending."""
+def texts_over(letters, length):
+    """The list of all texts of so many of the letters, ascending."""
     texts = [""]
     for _ in range(length):
-        texts = [text + letter for text in texts for letter in OUTCOMES[:width]]
+        texts = [text + letter for text in texts for letter in letters]
     return texts
+
+
+def texts_of(width, length):
+    """The list of all texts of so many outcomes, ascending."""
+    return texts_over(OUTCOMES[:width], length)
 
 
 def place_in(text, width):
@@ -154,6 +189,11 @@ def next_of(values, at, width):
     return values[first:first + width]
 
 
+def pieces_of(values, size):
+    """The list of the pieces into which a list falls, each of so many values."""
+    return [values[first:first + size] for first in range(0, len(values), size)]
+
+
 def nexts_of(values, width):
     """The list of next_of for each inner beginning, in order."""
-    return [values[first:first + width] for first in range(1, len(values), width)]
+    return pieces_of(values[1:], width)

@@ -2,7 +2,7 @@
 
 from notbehind.errors import Mismatch
 from notbehind.ratios import (
-    ZERO, checked, checked_all, greatest_of, is_less, least_of, mean_of, minus, plus, times,
+    ONE, ZERO, checked, checked_all, greatest_of, is_less, least_of, mean_of, minus, plus, times,
 )
 from notbehind.rows import back_order, renamed, rows_of, span_of
 from notbehind.shapes import (
@@ -101,14 +101,24 @@ def lowest_table(tables):
     return found
 
 
-def sums_along(steps):
-    """In the order of all beginnings, the sums along each of steps that stand by inner beginning and by outcome."""
-    found = [ZERO]
+def gathered_along(steps, start, gather):
+    """In the order of all beginnings, what each gathers of steps that stand by inner beginning and by outcome."""
+    found = [start]
     # The list grows in the order of all beginnings, which is the order of the steps.
     for at, nexts in enumerate(steps):
         so_far = found[at]
-        found.extend([plus(so_far, step) for step in nexts])
+        found.extend([gather(so_far, step) for step in nexts])
     return found
+
+
+def sums_along(steps):
+    """In the order of all beginnings, the sums of the steps along each."""
+    return gathered_along(steps, ZERO, plus)
+
+
+def products_along(steps):
+    """In the order of all beginnings, the products of the steps along each."""
+    return gathered_along(steps, ONE, times)
 
 
 def summed_table(width, rounds, steps):

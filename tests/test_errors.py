@@ -3,10 +3,17 @@
 import unittest
 
 from notbehind import errors
-from notbehind.errors import BadCount, BadName, BadRow, BadShare, BadSize, BadText, NotBehindError
+from notbehind.book import Stopped, replayed
+from notbehind.errors import (
+    BadCount, BadName, BadRow, BadShare, BadSize, BadText, InUse, Lacking, NotBehindError, NotExact, TakenName, UnknownName,
+    WrongKind,
+)
 from notbehind.exact import mean
+from notbehind.exactly import exact_share
+from notbehind.folding import kept
 from notbehind.plans import Plan
 from notbehind.rows import most_rounds, place_of
+from notbehind.tables import Table
 from notbehind.words import check_name, read_number
 from support import Case
 
@@ -25,6 +32,7 @@ class ErrorClasses(Case):
         for name in NAMES:
             with self.subTest(name=name):
                 self.assertEqual(getattr(errors, name).__bases__, (NotBehindError,))
+        self.assertEqual(Stopped.__bases__, (NotBehindError,))
 
     def test_attributes_are_set(self):
         self.raises(BadCount, {"found": 6, "low": 1, "high": 5}, most_rounds, 6)
@@ -33,6 +41,14 @@ class ErrorClasses(Case):
         self.raises(BadText, {"line": 1}, read_number, "x")
         self.raises(BadRow, {"found": "2"}, place_of, "2")
         self.raises(BadShare, {"at": ""}, Plan, 2, 1, [[1, 1]])
+        self.raises(NotExact, {"beginning": None}, exact_share, 5, 0)
+        self.raises(Lacking, {"amount": (1, 2)}, kept, Table(2, 1, [0, 0]))
+        book = replayed("even a 2 1\nmisses b a")
+        self.raises(UnknownName, {"name": "c"}, book, "c")
+        self.raises(TakenName, {"name": "a"}, book.do, "even a 2 1")
+        self.raises(WrongKind, {"name": "a"}, book.do, "keeper c a")
+        self.raises(InUse, {"name": "a", "user": "b"}, book.do, "drop a")
+        self.raises(Stopped, {"line": 2}, book.run, "even c 2 1\neven c 2 1")
 
     def test_they_are_caught_by_the_base_class_and_as_value_errors(self):
         with self.assertRaises(NotBehindError):

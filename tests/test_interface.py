@@ -94,6 +94,45 @@ INTERFACE = {
         "relay(sleepers, rest)", "are_apart(sleepers)", "farthest_behind(chooser, sleepers)",
         "stood_distance(sleepers, plan)",
     ],
+    "horizons": [
+        "joined(first, second)", "joined_all(tables)", "stretched(table, rounds)", "cut_row(row, lengths)",
+        "stretch_misses(plan, row, lengths)", "doubling_lengths(rounds)", "anew(plan, lengths)", "restart_best(parts)",
+        "restart_distance(parts)", "restart_chooser(parts)", "restart_foe(parts)",
+    ],
+    "anytime": [
+        "end_ladder(table, number)", "best_ladder(helpers)", "anytime_folds(ladder)", "anytime_fold(ladder)",
+        "anytime_chooser(ladder)", "anytime_foe(ladder)", "anytime_slack(chooser, ladder)",
+        "endings(stops, rounds, *, width=2)", "stopped_misses(foe, stops)", "stopped_mean(foe, stops, ladder)",
+        "anytime_paper(ladder)", "is_anytime_paper(ladder, paper)", "anytime_distance(helpers)",
+    ],
+    "sides": [
+        "most_sided(sides, width)", "side_rows(rounds, *, sides=2)", "side_spots(rounds, *, sides=2, width=2)",
+        "Sided(sides, width, rounds, tables)", "SidePlan(sides, width, rounds, shares)", "side_misses(plan, side, row)",
+        "side_table(plan, side)", "unsided(plan, side)", "same_sided(sides, table)", "sided_fold(sided)",
+        "ahead_fold(sided)", "sided_keeper(sided)", "sided_caller(sided)",
+        "side_row_of(calls, row, *, sides=2, width=2)", "sided_slack(plan, sided)", "sided_paper(sided)",
+        "is_sided_paper(sided, paper)", "sided_best(helpers)", "sided_distance(helpers)",
+    ],
+    "others": [
+        "first_rule(helpers)", "leaders_rule(helpers)", "same_rule(helpers)", "most_rule(helpers)",
+        "weights_rule(helpers, *, rate=(1, 2))", "helper_weights(helpers, beginning, *, rate=(1, 2))",
+        "rivals(helpers)", "closest_rival(helpers)", "distance_table(plan, helpers)", "spread(table)",
+        "weighed_spread(foe, table)", "spread_mean(pairs)", "rows_at(table, number)", "count_above(table, number)",
+    ],
+    "games": [
+        "Game(chooser, bounds)", "journal_of(chooser, beginning)", "first_wrong_entry(journal, chooser)",
+        "journal_text(journal, *, width=2)", "read_journal(text)", "is_journal(journal, chooser)",
+    ],
+    "changes": [
+        "Folded(table)", "still_behind(helpers, beginning, misses)", "rest_chooser(helpers, beginning)",
+        "put_in(helpers, newcomer, *, at=0)", "taken_out(helpers, at)",
+    ],
+    "lines": ["commands()", "parse_line(line)", "used_names(line)"],
+    "book": ["Book()", "replayed(text)"],
+    "audit": [
+        "wrong_papers(book)", "audit(book)", "settled(book, name)", "audit_script(text, answers)",
+        "differences(first, second)",
+    ],
 }
 
 METHODS = {
@@ -105,6 +144,31 @@ METHODS = {
     ("stakes", "Stakes"): ["__init__", "__call__", "__eq__"],
     ("stakes", "Picks"): ["__init__", "__call__", "__iter__", "__eq__"],
     ("sleepers", "Sleeper"): ["__init__", "__contains__"],
+    ("sides", "Sided"): ["__init__", "__call__", "__eq__"],
+    ("sides", "SidePlan"): ["__init__", "__call__", "__eq__"],
+    ("games", "Game"): [
+        "__init__", "__len__", "__iter__", "tell", "come", "play", "back", "close", "lead_on", "journal", "twin",
+    ],
+    ("changes", "Folded"): ["__init__", "behind", "change", "take_back", "moved"],
+    ("book", "Book"): [
+        "__init__", "__call__", "__len__", "__iter__", "__contains__", "do", "run", "names", "sort_of", "paper_table",
+        "line_of", "script", "script_text", "undo", "twin",
+    ],
+}
+
+# What the methods that are called by name take, behind their own object.
+ARGUMENTS = {
+    ("games", "Game"): {
+        "tell": "", "come": "outcome", "play": "text", "back": "", "close": "", "lead_on": "chooser, bounds",
+        "journal": "", "twin": "",
+    },
+    ("changes", "Folded"): {"behind": "beginning", "change": "row, number", "take_back": "", "moved": ""},
+    ("book", "Book"): {
+        "do": "line", "run": "text", "names": "", "sort_of": "name", "paper_table": "name", "line_of": "name",
+        "script": "", "script_text": "", "undo": "", "twin": "", "__call__": "name",
+    },
+    ("sides", "Sided"): {"__call__": "side, row"},
+    ("sides", "SidePlan"): {"__call__": "side, beginning"},
 }
 
 
@@ -125,6 +189,14 @@ class Interface(unittest.TestCase):
             for method in methods:
                 with self.subTest(name=name, method=method):
                     self.assertIn(method, vars(thing))
+
+    def test_arguments_of_methods(self):
+        for (file, name), methods in ARGUMENTS.items():
+            thing = getattr(importlib.import_module(f"notbehind.{file}"), name)
+            for method, arguments in methods.items():
+                with self.subTest(name=name, method=method):
+                    due = ", ".join(["self", *[arguments] * (arguments != "")])
+                    self.assertEqual(str(inspect.signature(vars(thing)[method])), f"({due})")
 
 
 if __name__ == "__main__":
