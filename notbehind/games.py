@@ -8,8 +8,8 @@ from notbehind.misses import row_misses, steps_along
 from notbehind.ratios import checked, checked_all, minus
 from notbehind.rows import most_rounds
 from notbehind.shapes import (
-    MOST_ROUNDS, check_beginning, check_count, check_outcome, check_same_shape, check_same_width, is_beginning,
-    is_outcome, is_outcomes, number_in,
+    MOST_ROUNDS, check_beginning, check_count, check_outcome, check_same_shape, is_beginning, is_outcome, is_outcomes,
+    number_in,
 )
 from notbehind.sharings import sized_numbers
 from notbehind.words import number_or_none, number_text
@@ -31,10 +31,10 @@ class Game:
         self._folds = wide_folds(bounds)
 
     def _go_to(self, beginning):
-        """Let the outcomes played be those of a beginning."""
+        """Let the outcomes played be those of a beginning; the game is not closed."""
         self.beginning = beginning
         self.left = self.chooser.rounds - len(beginning)
-        self.done = self.closed or self.left == 0
+        self.done = self.left == 0
         self.misses = row_misses(self.chooser, beginning)
         self.room = minus(self._folds[number_in(beginning, self.chooser.width)], self.misses)
 
@@ -86,9 +86,8 @@ class Game:
 
     def lead_on(self, chooser, bounds):
         """Add the rounds of a chooser and its bounds behind the last round."""
-        check_same_width(self.chooser, chooser)
         check_same_shape(chooser, bounds)
-        # Too many rounds raise BadCount here, ahead of the state of the game.
+        # Unlike widths, then too many rounds raise their errors here, ahead of the state of the game.
         longer = self.chooser + chooser
         self._check_open()
         self._arrange(longer, joined(self.bounds, bounds))

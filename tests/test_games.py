@@ -468,6 +468,18 @@ class Texts(Case):
                 self.raises(BadText, {"line": due}, read_journal, "\n".join(found))
                 self.raises(BadText, {"line": due}, read_journal, "\n".join(found + ["more"]) if due < 5 else "\n".join(found))
 
+    def test_beginnings_of_at_most_the_most_rounds_outcomes(self):
+        for width, most in MOST_ROUNDS.items():
+            rest = f"{width - 1}" + " 0" * (width + 1)
+            for length in range(most + 1):
+                found = read_journal(f"journal {width} 1\n{'0' * length or '-'} {rest}")
+                self.same((found[0][0], found[0][1]), ("0" * length, str(width - 1)))
+                self.same(journal_text(found, width=width), f"journal {width} 1\n{'0' * length or '-'} {rest}")
+            for wrong in ("0" * (most + 1), str(width), "0" * most + " ", "0" * 99):
+                self.raises(BadText, {"line": 2}, read_journal, f"journal {width} 1\n{wrong} {rest}")
+            if width < 5:
+                self.raises(BadText, {"line": 2}, read_journal, f"journal {width} 1\n- {width}" + " 0" * (width + 1))
+
     def test_texts_that_end_too_early_or_too_late(self):
         lines = "journal 2 3\n- 1 1/2 1/2 1/2\n1 0 1 0 0\n10 0 -1 2 1".split("\n")
         self.raises(BadText, {"line": 1}, read_journal, "")

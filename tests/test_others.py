@@ -158,6 +158,11 @@ class Weights(Case):
                     expected = pairs([weight_of(helper, b, value_of(rate)) for helper in helpers])
                     self.same(helper_weights(tuple(helpers), b, rate=rate), expected)
 
+    def test_weights_of_one_helper_and_equal_ones(self):
+        for many in (1, 5):
+            self.same(helper_weights([sure_plan(2, "00")] * many, "01", rate=(1, 3)), [(1, 3)] * many)
+            self.same(helper_weights([even_plan(3, 0)] * many, ""), [(1, 1)] * many)
+
     def test_weights_on_long_rows(self):
         for width, rounds in EDGE_SHAPES:
             helpers = some_helpers(width, rounds, 5, 3)
