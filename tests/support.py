@@ -109,8 +109,12 @@ def some_numbers(many, seed=1):
 
 def some_shares(width, rounds, seed=1):
     """Sharings of all forms, one for each inner beginning; some shares are 0."""
+    return some_sharings(len(inner_texts(width, rounds)), width, seed)
+
+
+def some_sharings(many, width, seed=1):
     found = []
-    for at in range(len(inner_texts(width, rounds))):
+    for at in range(many):
         parts = [((at * 31 + y * 17 + seed * 13) ** 2) % 7 for y in range(width)]
         if sum(parts) == 0:
             parts[(at + seed) % width] = 1

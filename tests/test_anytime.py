@@ -14,25 +14,14 @@ from notbehind.helpers import distance
 from notbehind.misses import least_misses, mean_under
 from notbehind.plans import Plan, blended, even_plan, sure_plan
 from notbehind.tables import Table, flat, highest_rows
+from samples import some_helpers, some_plan, some_table
 from support import (
     EDGE_SHAPES, HUGE, MOST_ROUNDS, NOT_NUMBERS, SHAPES, SMALL_SHAPES, Case, all_texts, inner_texts, pair, pairs,
-    some_numbers, some_shares, texts, value_of, wrong_texts,
+    some_numbers, texts, value_of, wrong_texts,
 )
 
 SMALL = Fraction(1, 10 ** 25)
 LADDERS = [anytime_folds, anytime_fold, anytime_chooser, anytime_foe, anytime_paper]
-
-
-def some_table(width, rounds, seed=1):
-    return Table(width, rounds, some_numbers(width ** rounds, seed))
-
-
-def some_plan(width, rounds, seed=1):
-    return Plan(width, rounds, some_shares(width, rounds, seed))
-
-
-def some_helpers(width, rounds, many, seed=1):
-    return [some_plan(width, rounds, seed + 3 * at) for at in range(many)]
 
 
 def some_ladder(width, rounds, seed=1):

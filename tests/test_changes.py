@@ -8,24 +8,13 @@ from notbehind.changes import Folded, put_in, rest_chooser, still_behind, taken_
 from notbehind.errors import BadCount, BadNumber, BadRow, Mismatch, NoHelper, NothingToTakeBack
 from notbehind.filling import wide_behind
 from notbehind.helpers import best_table, distance, nearest_chooser
-from notbehind.plans import Plan, behind_plan, even_plan, sure_plan
+from notbehind.plans import behind_plan, even_plan, sure_plan
 from notbehind.tables import Table, changed, flat
+from samples import some_helpers, some_table
 from support import (
-    EDGE_SHAPES, HUGE, NOT_NUMBERS, SHAPES, SMALL_SHAPES, Case, all_texts, pair, some_numbers, some_shares, texts, value_of,
-    wrong_counts, wrong_texts,
+    EDGE_SHAPES, HUGE, NOT_NUMBERS, SHAPES, SMALL_SHAPES, Case, all_texts, pair, texts, value_of, wrong_counts,
+    wrong_texts,
 )
-
-
-def some_table(width, rounds, seed=1):
-    return Table(width, rounds, some_numbers(width ** rounds, seed))
-
-
-def some_plan(width, rounds, seed=1):
-    return Plan(width, rounds, some_shares(width, rounds, seed))
-
-
-def some_helpers(width, rounds, many, seed=1):
-    return [some_plan(width, rounds, seed + 3 * at) for at in range(many)]
 
 
 def state(folded):

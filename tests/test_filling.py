@@ -17,16 +17,13 @@ from notbehind.misses import even_misses, keeps, misses_table
 from notbehind.papers import bounds_paper, is_bounds_paper, is_value_paper, tight_rows, value_paper
 from notbehind.plans import Plan, even_plan, sure_plan
 from notbehind.tables import Table, changed, flat, raised
+from samples import some_plan
 from support import (
-    NOT_NUMBERS, SHAPES, SMALL_SHAPES, Case, all_texts, inner_texts, pair, pairs, some_numbers, some_shares, texts,
-    value_of, wrong_texts,
+    NOT_NUMBERS, SHAPES, SMALL_SHAPES, Case, all_texts, inner_texts, pair, pairs, some_numbers, texts, value_of,
+    wrong_texts,
 )
 
 SMALL = Fraction(1, 10 ** 25)
-
-
-def some_plan(width, rounds, seed=1):
-    return Plan(width, rounds, some_shares(width, rounds, seed))
 
 
 def some_tables(width, rounds):

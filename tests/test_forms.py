@@ -7,17 +7,8 @@ from notbehind.errors import BadText
 from notbehind.forms import plan_text, read_plan, read_table, table_text
 from notbehind.plans import Plan, even_plan
 from notbehind.tables import Table
-from support import (
-    EDGE_SHAPES, MOST_ROUNDS, SHAPES, Case, inner_texts, some_numbers, some_shares, texts, value_of,
-)
-
-
-def some_table(width, rounds, seed=1):
-    return Table(width, rounds, some_numbers(width ** rounds, seed))
-
-
-def some_plan(width, rounds, seed=1):
-    return Plan(width, rounds, some_shares(width, rounds, seed))
+from samples import some_plan, some_table
+from support import EDGE_SHAPES, MOST_ROUNDS, SHAPES, Case, inner_texts, texts, value_of
 
 
 class Texts(Case):

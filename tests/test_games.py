@@ -10,22 +10,15 @@ from notbehind.errors import (
 from notbehind.filling import wide_fold, wide_keeper
 from notbehind.games import Game, first_wrong_entry, is_journal, journal_of, journal_text, read_journal
 from notbehind.horizons import joined
-from notbehind.plans import Plan, even_plan, sure_plan
+from notbehind.plans import even_plan, sure_plan
 from notbehind.tables import Table, flat
+from samples import some_plan, some_table
 from support import (
-    EDGE_SHAPES, HUGE, MOST_ROUNDS, NOT_NUMBERS, SHAPES, SMALL_SHAPES, Case, all_texts, pair, pairs, some_numbers,
-    some_shares, texts, value_of, wrong_counts, wrong_texts,
+    EDGE_SHAPES, HUGE, MOST_ROUNDS, NOT_NUMBERS, SHAPES, SMALL_SHAPES, Case, all_texts, pair, pairs, texts, value_of,
+    wrong_counts, wrong_texts,
 )
 
 HALF = (1, 2)
-
-
-def some_table(width, rounds, seed=1):
-    return Table(width, rounds, some_numbers(width ** rounds, seed))
-
-
-def some_plan(width, rounds, seed=1):
-    return Plan(width, rounds, some_shares(width, rounds, seed))
 
 
 def some_game(width, rounds, seed=1):

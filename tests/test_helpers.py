@@ -15,9 +15,8 @@ from notbehind.misses import least_misses, mean_under
 from notbehind.papers import is_value_paper
 from notbehind.plans import Plan, blended, even_plan, sure_plan
 from notbehind.tables import Table
-from support import (
-    EDGE_SHAPES, NOT_NUMBERS, SHAPES, SMALL_SHAPES, Case, pair, pairs, some_shares, texts, value_of, wrong_texts,
-)
+from samples import some_helpers, some_plan
+from support import EDGE_SHAPES, NOT_NUMBERS, SHAPES, SMALL_SHAPES, Case, pair, pairs, texts, value_of, wrong_texts
 
 SMALL = Fraction(1, 10 ** 25)
 LISTS = [
@@ -25,14 +24,6 @@ LISTS = [
     ("first_best", first_best),
 ]
 WHOLE = [best_table, distance, nearest_chooser, hard_foe, distance_paper]
-
-
-def some_plan(width, rounds, seed=1):
-    return Plan(width, rounds, some_shares(width, rounds, seed))
-
-
-def some_helpers(width, rounds, many, seed=1):
-    return [some_plan(width, rounds, seed + 3 * at) for at in range(many)]
 
 
 def best_by_row(helpers):

@@ -14,24 +14,12 @@ from notbehind.horizons import (
 from notbehind.misses import least_misses, mean_under, row_misses
 from notbehind.plans import Plan, behind_plan, even_plan, ones_plan, sure_plan
 from notbehind.tables import Table, flat
+from samples import some_helpers, some_plan, some_table
 from support import (
-    HUGE, MOST_ROUNDS, SHAPES, Case, inner_texts, pair, pairs, some_numbers, some_shares, texts, value_of, wrong_counts,
-    wrong_texts,
+    HUGE, MOST_ROUNDS, SHAPES, Case, inner_texts, pair, pairs, texts, value_of, wrong_counts, wrong_texts,
 )
 
 RESTARTS = [restart_best, restart_distance, restart_chooser, restart_foe]
-
-
-def some_table(width, rounds, seed=1):
-    return Table(width, rounds, some_numbers(width ** rounds, seed))
-
-
-def some_plan(width, rounds, seed=1):
-    return Plan(width, rounds, some_shares(width, rounds, seed))
-
-
-def some_helpers(width, rounds, many, seed=1):
-    return [some_plan(width, rounds, seed + 3 * at) for at in range(many)]
 
 
 def cuts(rounds, many):

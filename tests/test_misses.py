@@ -11,16 +11,12 @@ from notbehind.misses import (
 )
 from notbehind.plans import Plan, even_plan, ones_plan, sure_plan
 from notbehind.tables import Table, changed, flat, raised
+from samples import some_plan
 from support import (
-    EDGE_SHAPES, SHAPES, SMALL_SHAPES, Case, all_texts, inner_texts, pair, pairs, some_numbers, some_shares, texts,
-    wrong_texts,
+    EDGE_SHAPES, SHAPES, SMALL_SHAPES, Case, all_texts, inner_texts, pair, pairs, some_numbers, texts, wrong_texts,
 )
 
 TINY = (1, 10 ** 30)
-
-
-def some_plan(width, rounds, seed=1):
-    return Plan(width, rounds, some_shares(width, rounds, seed))
 
 
 def share(plan, beginning, outcome):

@@ -14,9 +14,10 @@ from notbehind.others import (
 from notbehind.misses import mean_under
 from notbehind.plans import Plan, even_plan, ones_plan, sure_plan
 from notbehind.tables import Table, flat
+from samples import some_helpers, some_plan
 from support import (
     EDGE_SHAPES, HUGE, NOT_NUMBERS, SHAPES, SMALL_SHAPES, Case, all_texts, inner_texts, pair, pairs, some_numbers,
-    some_shares, texts, value_of, wrong_texts,
+    texts, value_of, wrong_texts,
 )
 
 SMALL = Fraction(1, 10 ** 25)
@@ -24,14 +25,6 @@ RULES = [
     ("first", first_rule), ("leaders", leaders_rule), ("same", same_rule), ("weights", weights_rule), ("most", most_rule),
 ]
 RATES = [0, 1, (1, 2), (3, 4), (2, 6), (10 ** 25 - 1, 10 ** 25), (0, 7), (5, 5)]
-
-
-def some_plan(width, rounds, seed=1):
-    return Plan(width, rounds, some_shares(width, rounds, seed))
-
-
-def some_helpers(width, rounds, many, seed=1):
-    return [some_plan(width, rounds, seed + 3 * at) for at in range(many)]
 
 
 def sure_helpers(*rows):

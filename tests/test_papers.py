@@ -15,15 +15,10 @@ from notbehind.papers import (
 )
 from notbehind.plans import Plan, blended, even_plan, sure_plan
 from notbehind.tables import Table, flat, raised
-from support import (
-    EDGE_SHAPES, NOT_NUMBERS, SHAPES, SMALL_SHAPES, Case, pair, pairs, some_numbers, some_shares, texts, value_of,
-)
+from samples import some_plan
+from support import EDGE_SHAPES, NOT_NUMBERS, SHAPES, SMALL_SHAPES, Case, pair, pairs, some_numbers, texts, value_of
 
 SMALL = Fraction(1, 10 ** 25)
-
-
-def some_plan(width, rounds, seed=1):
-    return Plan(width, rounds, some_shares(width, rounds, seed))
 
 
 def some_table(width, rounds, seed=1):

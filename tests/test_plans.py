@@ -9,16 +9,13 @@ from notbehind.plans import (
     Plan, behind_plan, blended, even_plan, first_bad_share, ones_plan, renamed_plan, root_plan, round_plan, sure_plan,
 )
 from notbehind.tables import Table
+from samples import some_plan
 from support import (
     EDGE_SHAPES, MOST_ROUNDS, NOT_NUMBERS, SHAPES, SMALL_SHAPES, Case, all_texts, inner_texts, pair, share_pairs,
     some_shares, texts, value_of, wrong_texts,
 )
 
 TINY = Fraction(1, 10 ** 30)
-
-
-def some_plan(width, rounds, seed=1):
-    return Plan(width, rounds, some_shares(width, rounds, seed))
 
 
 def sure(width, outcome):

@@ -14,8 +14,8 @@ from notbehind.sides import (
 )
 from notbehind.tables import Table, flat
 from support import (
-    MOST_ROUNDS, NOT_NUMBERS, Case, all_texts, inner_texts, pair, pairs, share_pairs, some_numbers, texts, value_of,
-    wrong_counts, wrong_texts,
+    MOST_ROUNDS, NOT_NUMBERS, Case, all_texts, inner_texts, pair, pairs, share_pairs, some_numbers, some_sharings, texts,
+    value_of, wrong_counts, wrong_texts,
 )
 
 SMALL = Fraction(1, 10 ** 25)
@@ -50,14 +50,7 @@ def some_sided(sides, width, rounds, seed=1):
 
 def some_side_shares(sides, width, rounds, seed=1):
     """Sharings of all forms, one for each spot; some shares are 0."""
-    found = []
-    for at in range(len(spots_of(sides, width, rounds))):
-        parts = [((at * 31 + y * 17 + seed * 13) ** 2) % 7 for y in range(width)]
-        if sum(parts) == 0:
-            parts[(at + seed) % width] = 1
-        shares = [(2 * part, 2 * sum(parts)) for part in parts]
-        found.append(tuple(shares) if at % 2 else shares)
-    return found
+    return some_sharings(len(spots_of(sides, width, rounds)), width, seed)
 
 
 def some_side_plan(sides, width, rounds, seed=1):

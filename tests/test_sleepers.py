@@ -11,11 +11,8 @@ from notbehind.sleepers import (
     Sleeper, are_apart, awake_rounds, behind_sleeper, counted_misses, farthest_behind, relay, speaker, stood_distance,
     stood_in,
 )
-from support import EDGE_SHAPES, SHAPES, SMALL_SHAPES, Case, inner_texts, pair, some_shares, texts, value_of, wrong_texts
-
-
-def some_plan(width, rounds, seed=1):
-    return Plan(width, rounds, some_shares(width, rounds, seed))
+from samples import some_plan
+from support import EDGE_SHAPES, SHAPES, SMALL_SHAPES, Case, inner_texts, pair, texts, value_of, wrong_texts
 
 
 def some_awake(width, rounds, seed=1):

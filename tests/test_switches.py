@@ -15,17 +15,14 @@ from notbehind.switches import (
     switch_table, switches_in,
 )
 from notbehind.tables import Table
+from samples import some_helpers
 from support import (
-    EDGE_SHAPES, HUGE, SHAPES, Case, inner_texts, pair, pairs, some_shares, texts, value_of, wrong_counts, wrong_texts,
+    EDGE_SHAPES, HUGE, SHAPES, Case, inner_texts, pair, pairs, texts, value_of, wrong_counts, wrong_texts,
 )
 
 SHORT = [(1, 0), (1, 2), (2, 0), (2, 1), (2, 2), (2, 3), (3, 2), (4, 1), (5, 2)]
 TABLES = [switch_table, switch_distance, switch_chooser, switch_foe]
 ROWS = [switch_misses, best_path]
-
-
-def some_helpers(width, rounds, many, seed=1):
-    return [Plan(width, rounds, some_shares(width, rounds, seed + 3 * at)) for at in range(many)]
 
 
 def sure_helpers(*rows):

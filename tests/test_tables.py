@@ -10,16 +10,13 @@ from notbehind.tables import (
     Table, behind, changed, first_above, flat, greater, highest_rows, is_below, joined_parts, lesser, lowest_rows,
     mean_behind, means, raised, renamed_table,
 )
+from samples import some_table
 from support import (
     EDGE_SHAPES, MOST_ROUNDS, NOT_NUMBERS, SHAPES, SMALL_SHAPES, Case, all_texts, pair, pairs, some_numbers, texts,
     value_of, wrong_texts,
 )
 
 LONG = 10 ** 39 + 7
-
-
-def some_table(width, rounds, seed=1):
-    return Table(width, rounds, some_numbers(width ** rounds, seed))
 
 
 def told(table):
